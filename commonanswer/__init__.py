@@ -1,0 +1,1 @@
+"""Commonanswer: one answer for all true numbers."""
