@@ -1,11 +1,24 @@
 """How the files of the package are written: the sizes, characters and imports that its subset of Python allows."""
 
 import ast
+import builtins
 import pathlib
 import unittest
 
 PACKAGE = pathlib.Path(__file__).resolve().parent.parent / "commonanswer"
 LIBRARY = ("heapq", "math", "itertools", "collections")
+BUILTINS = (
+    "len", "range", "enumerate", "zip", "min", "max", "sum", "abs", "sorted", "reversed", "int", "str", "bool", "list",
+    "tuple", "dict", "set", "isinstance", "ord", "repr", "any", "all", "divmod", "ValueError", "TypeError", "KeyError",
+    "IndexError", "LookupError", "ArithmeticError", "property", "classmethod", "staticmethod",
+)
+BARRED = (
+    "register", "mro", "elements", "open", "input", "law", "version_info", "with_traceback", "add_note", "attrgetter",
+    "breakpoint", "builtins", "compile", "copyright", "credits", "delattr", "dir", "eval", "exec", "exit", "gc",
+    "globals", "help", "id", "importlib", "license", "locals", "methodcaller", "os", "quit", "sys", "vars", "typing",
+    "enum", "dataclass", "namedtuple", "format",
+)
+DOUBLE = ("__init__", "__eq__", "__len__", "__str__", "__bool__")
 
 
 def sources():
@@ -41,3 +54,34 @@ class Form(unittest.TestCase):
                     top = node.module.split(".")[0]
                     self.assertTrue(node.level == 0 and top in ("commonanswer", *LIBRARY), f"{path}:{node.lineno}")
                     self.assertNotIn("*", [name.name for name in node.names])
+
+    def test_builtins(self):
+        for path, text in sources():
+            for node in ast.walk(ast.parse(text)):
+                if isinstance(node, ast.Name) and hasattr(builtins, node.id):
+                    self.assertIn(node.id, BUILTINS, f"{path}:{node.lineno}")
+
+    def test_names_that_are_not_used(self):
+        for path, text in sources():
+            for node in ast.walk(ast.parse(text)):
+                names = [
+                    getattr(node, field) for field in ("id", "name", "attr", "arg", "asname")
+                    if isinstance(getattr(node, field, None), str)
+                ]
+                for name in names:
+                    self.assertNotIn(name, BARRED, path)
+                    self.assertTrue(not name.startswith("__") or name in DOUBLE, f"{path}: {name}")
+
+    def test_signs_and_statements(self):
+        barred = (
+            ast.Div, ast.MatMult, ast.GeneratorExp, ast.Global, ast.AsyncFunctionDef, ast.Await, ast.AnnAssign,
+            ast.SetComp, ast.Set, ast.NamedExpr,
+        )
+        for path, text in sources():
+            for node in ast.walk(ast.parse(text)):
+                self.assertNotIsInstance(node, barred, path)
+                if isinstance(node, ast.Constant):
+                    self.assertNotIsInstance(node.value, (float, complex, bytes), path)
+                if isinstance(node, ast.Call):
+                    for part in node.args:
+                        self.assertFalse(isinstance(part, ast.Starred) and not isinstance(part.value, ast.Name), path)
