@@ -1,13 +1,24 @@
 """What several calls take, and the errors for what is not right."""
 
-from commonanswer.errors import InvalidAnswer, InvalidName, NotASystem
+from commonanswer.errors import InvalidAnswer, InvalidCosts, InvalidName, NotASystem, OtherUnknowns
+from commonanswer.limits import MOST_COST
 from commonanswer.ratios import is_fraction
-from commonanswer.systems import System, is_one_of, is_tuple_of
+from commonanswer.systems import System, is_integer, is_one_of, is_tuple_of
 
 
 def is_answer(value, many):
     """Whether a value is an answer for so many unknowns."""
     return is_tuple_of(value, many) and all([is_fraction(part) for part in value])
+
+
+def is_cost(value):
+    """Whether a value is a cost of one unknown."""
+    return is_integer(value) and -MOST_COST <= value <= MOST_COST
+
+
+def are_costs(value, many):
+    """Whether a value is costs of so many unknowns."""
+    return is_tuple_of(value, many) and all([is_cost(cost) for cost in value])
 
 
 def check_system(system):
@@ -26,3 +37,17 @@ def check_answer(system, answer):
     """Raise InvalidAnswer for what is no answer for the unknowns of a system."""
     if not is_answer(answer, len(system.unknowns)):
         raise InvalidAnswer(answer)
+
+
+def check_costs(system, costs):
+    """Raise InvalidCosts for what is no costs of the unknowns of a system."""
+    if not are_costs(costs, len(system.unknowns)):
+        raise InvalidCosts(costs)
+
+
+def check_both(one, other):
+    """Raise NotASystem for what is no system, OtherUnknowns for a second one with other unknowns."""
+    check_system(one)
+    check_system(other)
+    if one.unknowns != other.unknowns:
+        raise OtherUnknowns(other)

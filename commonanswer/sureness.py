@@ -1,5 +1,6 @@
-"""The rows of a system for sure answers: cheapest ones, and members that ask their cost."""
+"""The rows of a system for sure answers: cheapest ones, members that ask their cost, ones that stray from a row."""
 
+from commonanswer.answers import always_keeps
 from commonanswer.errors import NoSure
 from commonanswer.ratios import ZERO, dot, minus, over, plus, times
 from commonanswer.tables import cheapest_amounts
@@ -27,6 +28,12 @@ def cheapest_sure(rows, costs):
     many = len(costs)
     answer = tuple([minus(parts[at], parts[at + many]) for at in range(many)])
     return answer, (None if weights is None else tuple(weights))
+
+
+def has_sure(rows, many):
+    """Whether rows for so many unknowns have a sure answer."""
+    answer, _ = cheapest_sure(rows, [0] * many)
+    return answer is not None
 
 
 def share_for(stretches, weights, cost):
@@ -61,3 +68,36 @@ def worst_cost(rows, costs):
     if answer is None:
         raise NoSure()
     return None if weights is None else dot(costs, answer)
+
+
+def corners_of(stretches):
+    """All ways to take one end of each stretch."""
+    corners = [()]
+    for low, high in stretches:
+        ends = [low] if low == high else [low, high]
+        corners = [(*corner, end) for corner in corners for end in ends]
+    return corners
+
+
+def stray_from(rows, row):
+    """A sure answer of rows that does not always keep another row, None if there is none."""
+    answer, _ = cheapest_sure(rows, [0] * len(row[1]))
+    if answer is None or not always_keeps(row, answer):
+        return answer
+    low = row[2][0]
+    for corner in corners_of(row[1]):
+        # The sure answers have no gaps: if one goes beyond LOW, one goes beyond it by at most 1, where there is an end.
+        near = ("near", tuple([(end, end) for end in corner]), (low + 1, low + 1))
+        answer, _ = cheapest_sure([*rows, near], [-end for end in corner])
+        if not always_keeps(row, answer):
+            return answer
+    return None
+
+
+def stray_from_any(rows, others):
+    """A sure answer of rows that does not always keep one of the other rows, None if there is none."""
+    for row in others:
+        answer = stray_from(rows, row)
+        if answer is not None:
+            return answer
+    return None

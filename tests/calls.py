@@ -2,7 +2,7 @@
 
 from fractions import Fraction
 
-from commonanswer import answers, common, possible
+from commonanswer import answers, bars, common, comparing, costs, possible, widening
 from commonanswer.errors import InvalidAnswer, InvalidCosts, InvalidName, InvalidSteps, NotASystem
 from commonanswer.systems import System
 from tests.samples import SHOP, Harsh, Same, odd_values
@@ -19,6 +19,17 @@ LISTED = (
     (common, "sure_range", ("system", "name")),
     (possible, "possible", ("system",)),
     (possible, "possible_range", ("system", "name")),
+    (costs, "worst", ("system", "costs")),
+    (costs, "best", ("system", "costs")),
+    (costs, "cheapest", ("system", "costs")),
+    (costs, "worst_member", ("system", "costs")),
+    (bars, "least_bars", ("system",)),
+    (bars, "spare_rows", ("system",)),
+    (widening, "widened", ("system", "steps")),
+    (widening, "greatest_widening", ("system",)),
+    (comparing, "is_within", ("one", "other")),
+    (comparing, "straying", ("one", "other")),
+    (comparing, "are_alike", ("one", "other")),
 )
 TIGHT = SHOP.changed(("room", "bound", (3, 5)))
 RIGHT = {
