@@ -1,7 +1,9 @@
 """What several calls take, and the errors for what is not right."""
 
-from commonanswer.errors import InvalidAnswer, InvalidCosts, InvalidName, NotASystem, OtherUnknowns
-from commonanswer.limits import MOST_COST
+from commonanswer.errors import (
+    InvalidAnswer, InvalidCosts, InvalidName, InvalidSeen, InvalidText, NotASystem, OtherUnknowns,
+)
+from commonanswer.limits import MOST_COST, MOST_SEEN
 from commonanswer.ratios import is_fraction
 from commonanswer.systems import System, is_integer, is_one_of, is_tuple_of
 
@@ -19,6 +21,14 @@ def is_cost(value):
 def are_costs(value, many):
     """Whether a value is costs of so many unknowns."""
     return is_tuple_of(value, many) and all([is_cost(cost) for cost in value])
+
+
+def system_in(text):
+    """The system with a text, None for what is no text of a system."""
+    try:
+        return System.read(text)
+    except InvalidText:
+        return None
 
 
 def check_system(system):
@@ -43,6 +53,15 @@ def check_costs(system, costs):
     """Raise InvalidCosts for what is no costs of the unknowns of a system."""
     if not are_costs(costs, len(system.unknowns)):
         raise InvalidCosts(costs)
+
+
+def check_seen(system, seen):
+    """Raise InvalidSeen for what are no answers for the unknowns of a system, or too many."""
+    if not isinstance(seen, tuple):
+        raise InvalidSeen(None)
+    for index, answer in enumerate(seen):
+        if index == MOST_SEEN or not is_answer(answer, len(system.unknowns)):
+            raise InvalidSeen(index)
 
 
 def check_both(one, other):

@@ -14,6 +14,9 @@ SHOP_TEXT = (
     "row more -1 -1 0 0 0 0\n"
     "row rest 0 0 -1 -1 0 0"
 )
+TIGHT = SHOP.changed(("room", "bound", (3, 5)))
+FOUR, THREE = ((0, 1), (4, 1)), ((3, 2), (0, 1))
+LONG = ((-(10 ** 39), 10 ** 39 + 1), (0, 1))
 
 
 class Same:

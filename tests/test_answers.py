@@ -8,9 +8,8 @@ from tests.reckoning import (
     Dice, answer_at, fraction, is_fraction, is_member, is_possible_at, is_sure_at, keeps, over_one_bottom, pieces,
     rooms_at, systems,
 )
-from tests.samples import SHOP
+from tests.samples import FOUR, SHOP, THREE
 
-FOUR, THREE = ((0, 1), (4, 1)), ((3, 2), (0, 1))
 MOST = 10 ** 40 - 1
 SYSTEMS = systems(3)
 

@@ -7,9 +7,8 @@ from commonanswer.bars import least_bars, spare_rows
 from commonanswer.common import common
 from commonanswer.systems import System
 from tests.reckoning import boxes, is_piece_within, pieces, systems
-from tests.samples import SHOP
+from tests.samples import SHOP, TIGHT
 
-TIGHT = SHOP.changed(("room", "bound", (3, 5)))
 SYSTEMS = systems(41) + boxes(42, 20)
 
 

@@ -7,9 +7,8 @@ from commonanswer.common import barring, common, sure_range
 from commonanswer.errors import NoSure
 from commonanswer.systems import System
 from tests.reckoning import bars, boxes, is_answer, is_sure_at, over_one_bottom, pieces, range_in, systems
-from tests.samples import SHOP
+from tests.samples import SHOP, TIGHT
 
-TIGHT = SHOP.changed(("room", "bound", (3, 5)))
 SYSTEMS = systems(11, 2) + boxes(12, 30)
 
 

@@ -8,9 +8,8 @@ from commonanswer.systems import System
 from tests.reckoning import (
     Dice, boxes, is_answer, is_piece_within, is_sure_at, narrow, over_one_bottom, pieces, systems,
 )
-from tests.samples import SHOP
+from tests.samples import SHOP, TIGHT
 
-TIGHT = SHOP.changed(("room", "bound", (3, 5)))
 EASY = ("easy", ((1, 1), (0, 0)), (5, 9))
 SYSTEMS = systems(61, 1, 5)[::2] + boxes(62, 20)
 

@@ -18,7 +18,7 @@ BARRED = (
     "globals", "help", "id", "importlib", "license", "locals", "methodcaller", "os", "quit", "sys", "vars", "typing",
     "enum", "dataclass", "namedtuple", "format",
 )
-DOUBLE = ("__init__", "__eq__", "__len__", "__str__", "__bool__")
+DOUBLE = ("__init__", "__eq__", "__len__", "__str__", "__bool__", "__enter__", "__exit__")
 
 
 def sources():

@@ -9,8 +9,9 @@ from commonanswer.errors import (
     BadName, BadValue, InvalidCosts, InvalidName, NoAnswer, NoPossible, NoSure, NotASystem, OtherUnknowns,
 )
 from commonanswer.systems import System
-from tests.calls import ERRORS, LISTED, RIGHT, WRONG, calls, ways
-from tests.samples import SHOP, SHOP_TEXT, odd_values
+from tests.calls import ERRORS, LISTED, RIGHT, calls, ways
+from tests.samples import FOUR, SHOP, SHOP_TEXT, odd_values
+from tests.wrong import WRONG
 
 NONE = System(("x", "y"), (("a", ((0, 0), (0, 0)), (-2, -1)),))
 MAYBE = System(("x", "y"), (("a", ((0, 0), (0, 0)), (-2, 1)),))
@@ -25,17 +26,17 @@ def outcome(way):
 
 
 class Calls(unittest.TestCase):
-    def raised(self, way, kind, base, *given):
-        """This way raises just this class of errors, under this base class alone, with the very value."""
+    def raised(self, way, kind, base, told):
+        """This way raises just this class of errors, under this base class alone, and it tells the very values."""
         with self.assertRaises(kind) as caught:
             way()
         error = caught.exception
         self.assertIs(error.__class__, kind)
         self.assertEqual([isinstance(error, own) for own in (BadValue, BadName, NoAnswer)].count(True), 1)
         self.assertIsInstance(error, base)
-        self.assertEqual(list(vars(error)), ["given"] if given else [])
-        for value in given:
-            self.assertIs(error.given, value)
+        self.assertEqual(list(vars(error)), list(told))
+        for word, value in told.items():
+            self.assertIs(vars(error)[word], value)
 
 
 class Passed(Calls):
@@ -80,32 +81,36 @@ class Passed(Calls):
     def test_one_wrong_value(self):
         for call, places in calls():
             for at, place in enumerate(places):
-                for value in WRONG[place]:
+                for value, told in WRONG[place]:
                     passed = [value if at == own else RIGHT[name][0] for own, name in enumerate(places)]
-                    self.raised(lambda: call(*passed), ERRORS[place], BadValue, value)
-                    self.raised(lambda: call(**dict(zip(places, passed))), ERRORS[place], BadValue, value)
+                    self.raised(lambda: call(*passed), ERRORS[place], BadValue, told)
+                    self.raised(lambda: call(**dict(zip(places, passed))), ERRORS[place], BadValue, told)
 
     def test_first_wrong_value_counts(self):
         for call, places in calls():
             for at, place in enumerate(places):
-                for value in WRONG[place][::5]:
+                for value, told in WRONG[place][::5]:
                     for later in (None, [1], (), value):
                         passed = [RIGHT[name][0] for name in places[:at]] + [value] + [later] * (len(places) - at - 1)
                         for way in ways(call, places, passed):
-                            self.raised(way, ERRORS[place], BadValue, value)
+                            self.raised(way, ERRORS[place], BadValue, told)
 
     def test_unknowns_of_the_system_count(self):
         three = System(("z", "x", "w"))
         one = System(("w",))
-        right = {"name": "z", "answer": ((1, 1),) * 3, "costs": (1, 1, 1)}
-        wrong = {"name": "y", "answer": ((1, 1),) * 2, "costs": (1, 1)}
+        long = ((1, 1),) * 3
+        right = {
+            "name": "z", "answer": long, "costs": (1, 1, 1), "seen": (long, long), "demand": ("like", "unknowns z x w"),
+        }
+        wrong = {"name": "y", "answer": FOUR, "costs": (1, 1), "seen": (FOUR,), "demand": ("like", "unknowns x z w")}
         for call, places in calls():
             if len(places) == 2 and places[1] in right:
                 place = places[1]
                 self.assertNotIn(outcome(lambda: call(three, right[place]))[0], (ERRORS[place], NotASystem))
                 for system, value in ((three, wrong[place]), (one, right[place]), (one, wrong[place])):
+                    told = {"index": 0} if place == "seen" else {"given": value}
                     for way in ways(call, places, (system, value)):
-                        self.raised(way, ERRORS[place], BadValue, value)
+                        self.raised(way, ERRORS[place], BadValue, told)
 
 
 class Last(Calls):
@@ -116,22 +121,22 @@ class Last(Calls):
             if name in asking:
                 for system in (NONE, MAYBE):
                     for way in ways(call, places, (system, asking[name])):
-                        self.raised(way, NoSure, NoAnswer)
+                        self.raised(way, NoSure, NoAnswer, {})
             elif name in ("possible_range", "best"):
                 value = "y" if name == "possible_range" else (0, 0)
                 for way in ways(call, places, (NONE, value)):
-                    self.raised(way, NoPossible, NoAnswer)
+                    self.raised(way, NoPossible, NoAnswer, {})
                 self.assertEqual(outcome(lambda: call(MAYBE, value))[0], "returned")
             elif name == "greatest_widening":
                 for system in (NONE, MAYBE):
                     for way in ways(call, places, (system,)):
-                        self.raised(way, NoSure, NoAnswer)
+                        self.raised(way, NoSure, NoAnswer, {})
 
     def test_they_are_looked_at_behind_all_others(self):
         for call, places in calls():
             kind = {("system", "name"): InvalidName, ("system", "costs"): InvalidCosts}.get(places)
             for value in odd_values() if kind else ():
-                self.raised(lambda: call(NONE, value), kind, BadValue, value)
+                self.raised(lambda: call(NONE, value), kind, BadValue, {"given": value})
 
     def test_other_unknowns(self):
         ones = [System(("x", "y")), SHOP, NONE]
@@ -143,9 +148,9 @@ class Last(Calls):
             if places == ("one", "other"):
                 for one, other in product(ones, others):
                     for way in ways(call, places, (one, other)):
-                        self.raised(way, OtherUnknowns, BadValue, other)
+                        self.raised(way, OtherUnknowns, BadValue, {"given": other})
                     for way in ways(call, places, (other, one)):
-                        self.raised(way, OtherUnknowns, BadValue, one)
+                        self.raised(way, OtherUnknowns, BadValue, {"given": one})
                 for other in others:
-                    self.raised(lambda: call(None, other), NotASystem, BadValue, None)
-                    self.raised(lambda: call(other, "x"), NotASystem, BadValue, "x")
+                    self.raised(lambda: call(None, other), NotASystem, BadValue, {"given": None})
+                    self.raised(lambda: call(other, "x"), NotASystem, BadValue, {"given": "x"})
