@@ -1,11 +1,13 @@
 """Demands on a system: which values are demands, and whether they hold."""
 
-from commonanswer.answers import always_keeps
+from commonanswer.answers import is_sure
 from commonanswer.checks import are_costs, is_answer, system_in
+from commonanswer.common import common
+from commonanswer.comparing import are_alike
 from commonanswer.limits import MOST_UNKNOWNS
+from commonanswer.possible import possible
 from commonanswer.ratios import dot
-from commonanswer.signs import any_possible
-from commonanswer.sureness import cheapest_sure, has_sure, stray_from_any
+from commonanswer.sureness import cheapest_sure
 from commonanswer.systems import is_integer, is_one_of
 
 MOST_SERVED = 10 ** 6
@@ -61,12 +63,12 @@ def is_any_demand(value):
 
 def has_common(system, parts):
     """Whether a system has a sure answer."""
-    return has_sure(system.rows, len(system.unknowns))
+    return common(system) is not None
 
 
 def has_possible(system, parts):
     """Whether a system has a possible answer."""
-    return any_possible(system.rows, len(system.unknowns)) is not None
+    return possible(system) is not None
 
 
 def serves(system, parts):
@@ -81,13 +83,12 @@ def serves(system, parts):
 
 def makes_sure(system, parts):
     """Whether an answer is sure."""
-    return all([always_keeps(row, parts[0]) for row in system.rows])
+    return is_sure(system, parts[0])
 
 
 def is_like(system, parts):
     """Whether a system has the same sure answers as the one with this text."""
-    other = system_in(parts[0])
-    return stray_from_any(system.rows, other.rows) is None and stray_from_any(other.rows, system.rows) is None
+    return are_alike(system, system_in(parts[0]))
 
 
 MEANINGS = {"all": has_common, "some": has_possible, "serves": serves, "sure": makes_sure, "like": is_like}

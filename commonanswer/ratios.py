@@ -52,9 +52,14 @@ def is_below(one, other):
     return one[0] * other[1] < other[0] * one[1]
 
 
+def weighed(weights, fractions):
+    """The sum over all places of weight times fraction."""
+    total = ZERO
+    for weight, part in zip(weights, fractions):
+        total = plus(total, times(weight, part))
+    return total
+
+
 def dot(numbers, fractions):
     """The sum over all places of integer times fraction."""
-    total = ZERO
-    for number, part in zip(numbers, fractions):
-        total = plus(total, times((number, 1), part))
-    return total
+    return weighed([(number, 1) for number in numbers], fractions)

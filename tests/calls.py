@@ -1,6 +1,8 @@
 """The functions of the interface with their parameters, and what each parameter takes."""
 
-from commonanswer import answers, bars, common, comparing, costs, mends, possible, seeing, widening
+from commonanswer import (
+    answers, bars, certificates, checker, common, comparing, costs, mends, possible, seeing, widening,
+)
 from commonanswer.errors import (
     InvalidAnswer, InvalidChanges, InvalidCosts, InvalidDemand, InvalidDemands, InvalidName, InvalidSeen, InvalidSteps,
     NotASystem,
@@ -36,6 +38,12 @@ LISTED = (
     (seeing, "clash", ("system", "seen")),
     (mends, "holds", ("system", "demand")),
     (mends, "mends", ("system", "demands", "changes")),
+    (checker, "accepts", ("claim", "certificate")),
+    (certificates, "certify_all", ("system",)),
+    (certificates, "certify_some", ("system",)),
+    (certificates, "certify_serves", ("system", "costs")),
+    (certificates, "certify_asks", ("system", "costs")),
+    (certificates, "certify_within", ("one", "other")),
 )
 RIGHT = {
     "system": [SHOP, TIGHT, System(("x", "y"))],
@@ -48,6 +56,8 @@ RIGHT = {
     "seen": [(), (FOUR, THREE), (LONG,) * 8],
     "demand": [("all",), ("serves", (2, 1), 4), ("like", SHOP_TEXT)],
     "demands": [(("all",),), (), (("serves", (-1000, 0), -(10 ** 6)), ("sure", LONG), ("some",))],
+    "claim": [("all", SHOP_TEXT), ("within", SHOP_TEXT, SHOP_TEXT), ("serves", SHOP_TEXT, (2, 1), 4, 1)],
+    "certificate": [FOUR, (), None],
     "changes": [(("need", "x", (0, 0)),), (), (("need", "bound", None), ("need", "y", (-1, -1)))],
 }
 ERRORS = {

@@ -253,6 +253,39 @@ def is_piece_within(found, rows):
     )
 
 
+def within(one, other):
+    """Whether each sure answer of a system is sure in another one with the same unknowns."""
+    return is_piece_within(pieces(one.rows, len(one.unknowns), True), other.rows)
+
+
+def demand_holds(system, demand):
+    """Whether a value that has the form of a demand is one on this system, and holds."""
+    many = len(system.unknowns)
+    word, *parts = demand
+    found = pieces(system.rows, many, word != "some")
+    if word in ("all", "some"):
+        return bool(found)
+    if word == "sure":
+        return len(parts[0]) == many and is_sure_at(system.rows, over_one_bottom(parts[0]))
+    if word == "like":
+        other = System.read(parts[0])
+        return other.unknowns == system.unknowns and within(system, other) and within(other, system)
+    if len(parts[0]) != many or not found:
+        return False
+    least = least_cost(found, parts[0])
+    return least is None or least[0] <= parts[1] * least[1]
+
+
+def shelf_holds(placed, demand):
+    """Whether a demand on a shelf holds for the systems under its names."""
+    if len(demand) == 2:
+        return demand_holds(placed[demand[0]], demand[1])
+    word, one, other = demand[0], placed[demand[1]], placed[demand[2]]
+    if one.unknowns != other.unknowns or not within(one, other):
+        return False
+    return word == "within" or within(other, one)
+
+
 def is_member(rows, member):
     """Whether a value is a member of a system with these rows."""
     if member.__class__ is not tuple or len(member) != len(rows):

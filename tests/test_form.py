@@ -18,7 +18,10 @@ BARRED = (
     "globals", "help", "id", "importlib", "license", "locals", "methodcaller", "os", "quit", "sys", "vars", "typing",
     "enum", "dataclass", "namedtuple", "format",
 )
-DOUBLE = ("__init__", "__eq__", "__len__", "__str__", "__bool__", "__enter__", "__exit__")
+DOUBLE = (
+    "__init__", "__eq__", "__len__", "__str__", "__bool__", "__enter__", "__exit__", "__contains__", "__iter__",
+    "__getitem__", "__setitem__",
+)
 
 
 def sources():

@@ -1,13 +1,11 @@
 """Desks: rows put, narrowed, dropped and taken back, against a list that the test keeps by itself."""
 
 import inspect
-import unittest
 
-from commonanswer.errors import (
-    BadName, BadValue, InvalidName, InvalidRow, InvalidStretch, InvalidUnknowns, NoAnswer, NothingToUndo,
-)
+from commonanswer.errors import InvalidName, InvalidRow, InvalidStretch, InvalidUnknowns, NothingToUndo
 from commonanswer.live import Desk
 from commonanswer.systems import System
+from tests.raising import Raising
 from tests.reckoning import UNKNOWNS, Dice, narrow, pieces, wide
 from tests.samples import MORE, NEED, ROOM, STRETCHES_WRONG, Harsh, Same, odd_values, row_called
 
@@ -75,25 +73,13 @@ def thrown_deed(dice, kept):
     return word, ((name,) if word == "drop" else ())
 
 
-class Desks(unittest.TestCase):
+class Desks(Raising):
     def stands(self, desk, system):
         """The desk has just the rows of this system."""
         self.assertEqual(desk.system, system)
         self.assertEqual([desk.system.unknowns, desk.system.rows], [system.unknowns, system.rows])
         self.assertEqual(len(desk), len(system))
         self.assertIs(desk.served, bool(pieces(system.rows, len(system.unknowns), True)))
-
-    def raised(self, told, call, *passed, **named):
-        """The call raises just this error, which tells the very values."""
-        kind, values = told
-        with self.assertRaises(kind) as caught:
-            call(*passed, **named)
-        error = caught.exception
-        self.assertIs(error.__class__, kind)
-        self.assertEqual([isinstance(error, own) for own in (BadValue, BadName, NoAnswer)].count(True), 1)
-        self.assertEqual(list(vars(error)), list(values))
-        for word, value in values.items():
-            self.assertIs(vars(error)[word], value)
 
     def done_alike(self, desk, kept, word, passed):
         """The deed is done, or raises its error, at the desk as in what the test keeps."""

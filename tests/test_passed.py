@@ -115,7 +115,10 @@ class Passed(Calls):
 
 class Last(Calls):
     def test_no_sure_and_no_possible_answer(self):
-        asking = {"sure_range": "x", "worst": (1, 0), "cheapest": (0, 0), "worst_member": (0, 1)}
+        asking = {
+            "sure_range": "x", "worst": (1, 0), "cheapest": (0, 0), "worst_member": (0, 1), "certify_serves": (0, 0),
+            "certify_asks": (-1, 1),
+        }
         for call, places in calls():
             name = call.__name__
             if name in asking:

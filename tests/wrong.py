@@ -133,5 +133,7 @@ WRONG = {
     "steps": by_value(steps_wrong()), "demand": by_value(demands_wrong()),
     "seen": by_index(rows_of((FOUR, THREE), answers_wrong(), 8)),
     "demands": by_index(rows_of((("all",), ("like", SHOP_TEXT)), demands_wrong(), 5)),
+    # The checker takes whatever it is passed, and says False.
+    "claim": [], "certificate": [],
     "changes": by_index(rows_of((("need", "x", (0, 0)), ("rest", "bound", None)), changes_wrong(), 5)),
 }
