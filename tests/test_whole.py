@@ -262,11 +262,11 @@ class Raised(unittest.TestCase):
         }
         right = ["need", "x", (-2, -1), 0, 1, ("need", ("all",)), ("alike", "need", "need"), ("need", ("like", "unknowns x")), SHOP.rows[1], "rows", "drop x", SHOP,
                  ("need", "x", (1, 1)), ("a", ("serves", (1,), 0)), ("x", ("like", "unknowns x")), SHOP_TEXT, "worst 1 1"]
-        shelf = Shelf()
-        shelf["need"], shelf["x"] = SHOP, System(("x",))
-        held = {"desk": desk_with(SHOP), "shelf": shelf, "console": console_with(SHOP), "system": SHOP}
         found = {}
         for (whose, name, many), kinds in listed.items():
+            shelf = Shelf()
+            shelf["need"], shelf["x"] = SHOP, System(("x",))
+            held = {"desk": desk_with(SHOP), "shelf": shelf, "console": console_with(SHOP), "system": SHOP}
             values = right + odd_values() if many == 1 else right
             for first in values:
                 for second in values if many == 3 else [None]:
