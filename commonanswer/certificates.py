@@ -1,7 +1,6 @@
 """Papers for the checker: pairs of a claim and a certificate that shows it."""
 
 from commonanswer.answers import member_with
-from commonanswer.checks import check_both, check_system
 from commonanswer.common import barring, common
 from commonanswer.comparing import straying
 from commonanswer.costs import cheapest, worst, worst_member
@@ -22,7 +21,6 @@ def weights_for_none(system):
 
 def certify_all(system):
     """The claim that all members have answers, or that some member has none, and its certificate."""
-    check_system(system)
     answer = common(system)
     if answer is None:
         return (("barred", str(system)), barring(system))
@@ -31,7 +29,6 @@ def certify_all(system):
 
 def certify_some(system):
     """The claim that some member has an answer, or that none has one, and its certificate."""
-    check_system(system)
     answer = possible(system)
     if answer is None:
         return (("none", str(system)), weights_for_none(system))
@@ -58,7 +55,6 @@ def certify_asks(system, costs):
 
 def certify_within(one, other):
     """The claim that each sure answer of the first system is sure in the second one, or not, and its certificate."""
-    check_both(one, other)
     answer = straying(one, other)
     if answer is None:
         return (("within", str(one), str(other)), ())

@@ -31,18 +31,15 @@ def has_answer(parts, many):
 
 
 def has_text(parts, many):
-    """Whether the text of a system with so many unknowns stands behind the word."""
-    if len(parts) != 1:
-        return False
-    system = system_in(parts[0])
-    return system is not None and len(system.unknowns) == many
+    """Whether the text of a system stands behind the word, whatever its unknowns are."""
+    return len(parts) == 1 and system_in(parts[0]) is not None
 
 
 FORMS = {"all": has_no_parts, "some": has_no_parts, "serves": has_costs_and_most, "sure": has_answer, "like": has_text}
 
 
 def has_form(value, many):
-    """Whether a value is a demand on a system with so many unknowns, whatever a text calls them."""
+    """Whether a value is a demand on a system with so many unknowns, whatever those of a text are."""
     if not isinstance(value, tuple) or len(value) == 0 or not is_one_of(value[0], list(FORMS)):
         return False
     has_parts = FORMS[value[0]]

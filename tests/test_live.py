@@ -195,6 +195,22 @@ class Deeds(Desks):
         self.assertEqual([before.rows, desk.system.rows], [(NEED,), (ROOM,)])
         self.assertEqual([desk.system, desk.served, desk.system], [System(("x", "y"), (ROOM,)), True, desk.system])
 
+    def test_same_in_the_same_condition(self):
+        one, other = Desk(("x", "y")), Desk(("x", "y"))
+        for row in (NEED, WIDE):
+            one.put(row)
+        other.put(MORE)
+        other.put(NEED)
+        other.put(WIDE)
+        other.drop("more")
+        for stretch in ((3, 4), (4, 4)):
+            told = [(desk.system, desk.served, len(desk)) for desk in (one, other, one)]
+            self.assertEqual(told[1:], told[:1] * 2)
+            for desk in (one, other):
+                desk.narrow("room", "bound", stretch)
+                self.raised((InvalidRow, {"given": NEED}), desk.put, NEED)
+        self.assertEqual([one.system, one.served], [other.system, True])
+
     def test_equal_to_itself_alone_and_true(self):
         one, other = Desk(("x",)), Desk(("x",))
         self.assertTrue(one == one)

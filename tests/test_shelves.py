@@ -264,6 +264,38 @@ class Deeds(Shelves):
             raise KeyError
         self.assertEqual([one.names, other.names], [("a",), ("a", "b")])
 
+    def test_same_in_the_same_condition(self):
+        one, other = Shelf(), Shelf()
+        for shelf, names in ((one, ("b", "a")), (other, ("a", "b"))):
+            for name in names:
+                shelf[name] = SHOP
+            shelf.ask(("alike", "a", "b"))
+        told = [(shelf.names, shelf.demands, shelf.changes, len(shelf), shelf["a"]) for shelf in (one, other, one)]
+        self.assertEqual(told[1:], told[:1] * 2)
+        for shelf in (one, other, one):
+            self.raised((Broken, {"index": 0}), put, shelf, "b", TIGHT)
+            self.raised((InUse, {"index": 0}), shelf.remove, "b")
+
+    def test_trials_with_one_object(self):
+        shelf = Shelf()
+        shelf["a"] = SHOP
+        trial = shelf.trial()
+        with self.assertRaises(KeyError), trial:
+            shelf["b"] = TIGHT
+            with self.assertRaises(ValueError), trial as held:
+                held.ask(("b", ("some",)))
+                shelf.undo()
+                shelf.undo()
+                shelf.undo()
+                self.assertEqual([held.names, held.changes], [(), 0])
+                raise ValueError
+            self.assertEqual([shelf.names, shelf.demands, shelf.changes], [("a", "b"), (), 2])
+            with trial:
+                shelf.ask(("b", ("some",)))
+            self.assertEqual([shelf.demands, shelf.changes], [(("b", ("some",)),), 3])
+            raise KeyError
+        self.assertEqual([shelf.names, shelf.demands, shelf.changes], [("a",), (), 1])
+
     def test_equal_to_itself_alone_and_true(self):
         one, other = Shelf(), Shelf()
         self.assertTrue(one == one)
