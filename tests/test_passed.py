@@ -2,7 +2,6 @@
 
 import copy
 import inspect
-import unittest
 from itertools import product
 
 from commonanswer.errors import (
@@ -10,6 +9,7 @@ from commonanswer.errors import (
 )
 from commonanswer.systems import System
 from tests.calls import ERRORS, LISTED, RIGHT, calls, ways
+from tests.raising import Raising
 from tests.samples import FOUR, SHOP, SHOP_TEXT, odd_values
 from tests.wrong import WRONG
 
@@ -25,21 +25,7 @@ def outcome(way):
         return (error.__class__, vars(error))
 
 
-class Calls(unittest.TestCase):
-    def raised(self, way, kind, base, told):
-        """This way raises just this class of errors, under this base class alone, and it tells the very values."""
-        with self.assertRaises(kind) as caught:
-            way()
-        error = caught.exception
-        self.assertIs(error.__class__, kind)
-        self.assertEqual([isinstance(error, own) for own in (BadValue, BadName, NoAnswer)].count(True), 1)
-        self.assertIsInstance(error, base)
-        self.assertEqual(list(vars(error)), list(told))
-        for word, value in told.items():
-            self.assertIs(vars(error)[word], value)
-
-
-class Passed(Calls):
+class Passed(Raising):
     def test_calls_are_defined_where_they_are_listed(self):
         for module, name, places in LISTED:
             call = getattr(module, name)
@@ -83,8 +69,8 @@ class Passed(Calls):
             for at, place in enumerate(places):
                 for value, told in WRONG[place]:
                     passed = [value if at == own else RIGHT[name][0] for own, name in enumerate(places)]
-                    self.raised(lambda: call(*passed), ERRORS[place], BadValue, told)
-                    self.raised(lambda: call(**dict(zip(places, passed))), ERRORS[place], BadValue, told)
+                    self.raised((ERRORS[place], told), lambda: call(*passed))
+                    self.raised((ERRORS[place], told), lambda: call(**dict(zip(places, passed))))
 
     def test_first_wrong_value_counts(self):
         for call, places in calls():
@@ -93,7 +79,7 @@ class Passed(Calls):
                     for later in (None, [1], (), value):
                         passed = [RIGHT[name][0] for name in places[:at]] + [value] + [later] * (len(places) - at - 1)
                         for way in ways(call, places, passed):
-                            self.raised(way, ERRORS[place], BadValue, told)
+                            self.raised((ERRORS[place], told), way)
 
     def test_unknowns_of_the_system_count(self):
         three = System(("z", "x", "w"))
@@ -110,10 +96,10 @@ class Passed(Calls):
                 for system, value in ((three, wrong[place]), (one, right[place]), (one, wrong[place])):
                     told = {"index": 0} if place == "seen" else {"given": value}
                     for way in ways(call, places, (system, value)):
-                        self.raised(way, ERRORS[place], BadValue, told)
+                        self.raised((ERRORS[place], told), way)
 
 
-class Last(Calls):
+class Last(Raising):
     def test_no_sure_and_no_possible_answer(self):
         asking = {
             "sure_range": "x", "worst": (1, 0), "cheapest": (0, 0), "worst_member": (0, 1), "certify_serves": (0, 0),
@@ -124,22 +110,22 @@ class Last(Calls):
             if name in asking:
                 for system in (NONE, MAYBE):
                     for way in ways(call, places, (system, asking[name])):
-                        self.raised(way, NoSure, NoAnswer, {})
+                        self.raised((NoSure, {}), way)
             elif name in ("possible_range", "best"):
                 value = "y" if name == "possible_range" else (0, 0)
                 for way in ways(call, places, (NONE, value)):
-                    self.raised(way, NoPossible, NoAnswer, {})
+                    self.raised((NoPossible, {}), way)
                 self.assertEqual(outcome(lambda: call(MAYBE, value))[0], "returned")
             elif name == "greatest_widening":
                 for system in (NONE, MAYBE):
                     for way in ways(call, places, (system,)):
-                        self.raised(way, NoSure, NoAnswer, {})
+                        self.raised((NoSure, {}), way)
 
     def test_they_are_looked_at_behind_all_others(self):
         for call, places in calls():
             kind = {("system", "name"): InvalidName, ("system", "costs"): InvalidCosts}.get(places)
             for value in odd_values() if kind else ():
-                self.raised(lambda: call(NONE, value), kind, BadValue, {"given": value})
+                self.raised((kind, {"given": value}), lambda: call(NONE, value))
 
     def test_other_unknowns(self):
         ones = [System(("x", "y")), SHOP, NONE]
@@ -151,9 +137,9 @@ class Last(Calls):
             if places == ("one", "other"):
                 for one, other in product(ones, others):
                     for way in ways(call, places, (one, other)):
-                        self.raised(way, OtherUnknowns, BadValue, {"given": other})
+                        self.raised((OtherUnknowns, {"given": other}), way)
                     for way in ways(call, places, (other, one)):
-                        self.raised(way, OtherUnknowns, BadValue, {"given": one})
+                        self.raised((OtherUnknowns, {"given": one}), way)
                 for other in others:
-                    self.raised(lambda: call(None, other), NotASystem, BadValue, {"given": None})
-                    self.raised(lambda: call(other, "x"), NotASystem, BadValue, {"given": "x"})
+                    self.raised((NotASystem, {"given": None}), lambda: call(None, other))
+                    self.raised((NotASystem, {"given": "x"}), lambda: call(other, "x"))

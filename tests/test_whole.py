@@ -1,5 +1,6 @@
 """[1] to [16] The whole program: the examples of the document, and that what the modules tell agrees."""
 
+import inspect
 import unittest
 
 from commonanswer import errors
@@ -89,6 +90,31 @@ class Examples(unittest.TestCase):
             return ""
         value = eval(code, names)
         return "" if value is None else repr(value)
+
+
+class Interface(unittest.TestCase):
+    def test_classes_and_their_methods(self):
+        for own, module, places, listed in (
+            (System, "systems", ["unknowns", "rows"],
+             ("read", "unknowns", "rows", "names", "__len__", "__str__", "__eq__", "changed", "without", "more")),
+            (Desk, "live", ["unknowns"],
+             ("put", "narrow", "drop", "undo", "system", "served", "__len__", "trial", "tried")),
+            (Shelf, "shelves", [],
+             ("__setitem__", "__getitem__", "remove", "ask", "lift", "undo", "trial", "tried", "names", "demands", "changes",
+              "__contains__", "__len__")),
+            (Console, "console", ["unknowns"], ("say", "desk")),
+        ):
+            self.assertEqual(own.__module__, f"commonanswer.{module}")
+            self.assertEqual(list(inspect.signature(own).parameters), places)
+            for name in listed:
+                self.assertIn(name, vars(own))
+
+    def test_what_is_read_only(self):
+        for held, names in ((SHOP, ("unknowns", "rows", "names")), (desk_with(SHOP), ("system", "served")),
+                            (Shelf(), ("names", "demands", "changes")), (Console(("x",)), ("desk",))):
+            for name in names:
+                with self.assertRaises(AttributeError):
+                    setattr(held, name, None)
 
 
 class Agreement(unittest.TestCase):
